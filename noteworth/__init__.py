@@ -1,0 +1,1 @@
+"""Noteworth: notes whose worth hangs on their neighbours."""

@@ -1,0 +1,166 @@
+"""The package's own files: no clock, chance or files (point 1), and the plain part of Python.
+
+These rows hold the rules of the language that can be seen in a file by itself; each test names its rules.
+"""
+
+import ast
+import builtins
+import pathlib
+import re
+import unittest
+import warnings
+
+PACKAGE = pathlib.Path(__file__).resolve().parent.parent / "noteworth"
+
+OWN_NAMES = set("""
+    len range enumerate zip min max sum abs sorted reversed int str bool bytes list tuple dict set
+    isinstance ord repr any all divmod Exception ValueError TypeError KeyError IndexError LookupError
+    ZeroDivisionError ArithmeticError OverflowError RuntimeError NotImplementedError
+""".split())
+
+BARRED_WORDS = """
+    type typing typing_extensions enum Enum IntEnum StrEnum Flag IntFlag Generic Protocol ABC ABCMeta
+    namedtuple NamedTuple TypedDict TYPE_CHECKING abstractmethod
+""".split()
+
+NODES = (
+    ast.Module, ast.ImportFrom, ast.alias, ast.FunctionDef, ast.ClassDef, ast.arguments, ast.arg, ast.Lambda,
+    ast.Assign, ast.AugAssign, ast.If, ast.While, ast.For, ast.Return, ast.Break, ast.Continue, ast.Pass,
+    ast.Raise, ast.Try, ast.ExceptHandler, ast.Expr, ast.Delete, ast.Assert,
+    ast.Constant, ast.List, ast.Tuple, ast.Dict, ast.Set, ast.BinOp, ast.UnaryOp, ast.BoolOp, ast.Compare,
+    ast.IfExp, ast.Call, ast.keyword, ast.Attribute, ast.Subscript, ast.Slice, ast.Name, ast.Starred,
+    ast.ListComp, ast.DictComp, ast.SetComp, ast.comprehension, ast.JoinedStr, ast.FormattedValue,
+    ast.expr_context, ast.boolop, ast.operator, ast.unaryop, ast.cmpop,
+)
+
+METHODS = ("__init__", "__eq__", "__repr__", "__str__", "__len__")
+
+
+def texts():
+    """The text of each file of the package, by its name."""
+    return {path.name: path.read_text(encoding="utf-8") for path in sorted(PACKAGE.glob("*.py"))}
+
+
+def trees():
+    return {name: ast.parse(text) for name, text in texts().items()}
+
+
+def bound_names(tree):
+    """Every name that a file gives to something of its own."""
+    for node in ast.walk(tree):
+        if isinstance(node, (ast.FunctionDef, ast.ClassDef)):
+            yield node.name
+        elif isinstance(node, ast.arg):
+            yield node.arg
+        elif isinstance(node, ast.Name) and not isinstance(node.ctx, ast.Load):
+            yield node.id
+        elif isinstance(node, ast.alias):
+            yield node.asname or node.name
+        elif isinstance(node, ast.ExceptHandler) and node.name:
+            yield node.name
+        elif isinstance(node, ast.Attribute):
+            yield node.attr
+
+
+class FileTest(unittest.TestCase):
+    def test_files(self):
+        """L1, L14: plain lower-case .py files alone."""
+        names = [path.name for path in PACKAGE.iterdir() if path.name != "__pycache__"]
+        self.assertIn("__init__.py", names)
+        for name in names:
+            self.assertTrue(re.fullmatch(r"[a-z0-9_]+\.py", name), name)
+
+    def test_signs_and_sizes(self):
+        """L10, L14: signs from the blank to ~ and line feeds; files, rows and defs of a bounded size."""
+        for name, text in texts().items():
+            with self.subTest(name):
+                self.assertTrue(re.fullmatch(r"[\n -~]*", text))
+                rows = text.split("\n")
+                self.assertLessEqual(len(rows), 400)
+                self.assertLessEqual(max(map(len, rows)), 120)
+                for node in ast.walk(ast.parse(text)):
+                    if isinstance(node, ast.FunctionDef):
+                        self.assertLessEqual(node.end_lineno - node.lineno + 1, 40, node.name)
+
+    def test_words(self):
+        """L17: words that stand nowhere."""
+        for name, text in texts().items():
+            with self.subTest(name):
+                self.assertEqual(re.findall(r"\b(?:" + "|".join(BARRED_WORDS) + r")\b", text), [])
+                self.assertEqual(re.findall("dataclass|overload|contextmanager", text), [])
+
+
+class FormTest(unittest.TestCase):
+    def test_no_warnings(self):
+        """L27: no row of which Python's own reading warns."""
+        with warnings.catch_warnings():
+            warnings.simplefilter("error")
+            for name, text in texts().items():
+                compile(text, name, "exec")
+
+    def test_nodes(self):
+        """L4, L6, L7: nothing but the told forms."""
+        for name, tree in trees().items():
+            for node in ast.walk(tree):
+                self.assertIsInstance(node, NODES, (name, getattr(node, "lineno", 0)))
+                if isinstance(node, (ast.FunctionDef, ast.ClassDef)):
+                    self.assertEqual(node.decorator_list, [], (name, node.name))
+                if isinstance(node, ast.arguments):
+                    self.assertEqual((node.vararg, node.kwarg, node.posonlyargs), (None, None, []), name)
+                if isinstance(node, (ast.For, ast.While)):
+                    self.assertEqual(node.orelse, [], (name, node.lineno))
+                self.assertNotIsInstance(getattr(node, "op", None), (ast.Div, ast.MatMult), name)
+
+    def test_values(self):
+        """L7, L27: no float; no percent sign within a text."""
+        for name, tree in trees().items():
+            for node in ast.walk(tree):
+                if isinstance(node, ast.Constant):
+                    self.assertIn(type(node.value), (int, str, bytes, bool, type(None)), (name, node.lineno))
+                    if isinstance(node.value, str):
+                        self.assertNotIn("%", node.value, (name, node.lineno))
+
+    def test_imports(self):
+        """Point 1, L2, L16: the package's own modules alone, at the top, by their full names."""
+        for name, tree in trees().items():
+            for node in ast.walk(tree):
+                self.assertNotIsInstance(node, ast.Import, name)
+                if isinstance(node, ast.ImportFrom):
+                    self.assertIn(node, tree.body, name)
+                    self.assertEqual(node.level, 0, name)
+                    self.assertRegex(node.module, r"^noteworth\.[a-z0-9_]+$")
+                    self.assertNotIn("*", [alias.name for alias in node.names], name)
+
+    def test_names_of_pythons_own(self):
+        """Point 1, L8, L9: no built-in name but the told ones."""
+        barred = set(dir(builtins)) - OWN_NAMES - {"True", "False", "None"}
+        for name, tree in trees().items():
+            used = {node.id for node in ast.walk(tree) if isinstance(node, ast.Name)}
+            self.assertEqual(sorted(used & barred), [], name)
+
+    def test_plain_names(self):
+        """L5, L12, L15: no name begins with an underscore or is called like one of Python's own."""
+        for name, tree in trees().items():
+            for bound in bound_names(tree):
+                if bound not in METHODS:
+                    self.assertFalse(bound.startswith("_"), (name, bound))
+                    self.assertNotIn(bound, dir(builtins), name)
+
+    def test_top(self):
+        """L3, L15: at a file's top docstring, imports, defs, classes, and names given once."""
+        for name, tree in trees().items():
+            given = []
+            for node in tree.body:
+                self.assertIsInstance(node, (ast.Expr, ast.ImportFrom, ast.FunctionDef, ast.ClassDef, ast.Assign))
+                if isinstance(node, ast.Assign):
+                    self.assertEqual(len(node.targets), 1, name)
+                    given.append(node.targets[0].id)
+                if isinstance(node, (ast.FunctionDef, ast.ClassDef)):
+                    given.append(node.name)
+                if isinstance(node, ast.ImportFrom):
+                    given.extend([alias.asname or alias.name for alias in node.names])
+            self.assertEqual(sorted(set(given)), sorted(given), name)
+
+
+if __name__ == "__main__":
+    unittest.main()
