@@ -1,6 +1,6 @@
 """The package's own files: no clock, chance or files (point 1), and the plain part of Python.
 
-These rows hold the rules of the language that can be seen in a file by itself; each test names its rules.
+These rows hold those rules of the language that the files show by themselves; each test names its rules.
 """
 
 import ast
@@ -160,6 +160,75 @@ class FormTest(unittest.TestCase):
                 if isinstance(node, ast.ImportFrom):
                     given.extend([alias.asname or alias.name for alias in node.names])
             self.assertEqual(sorted(set(given)), sorted(given), name)
+
+
+def local_names(tree):
+    """Every parameter and local of a file's defs."""
+    for outer in ast.walk(tree):
+        if isinstance(outer, (ast.FunctionDef, ast.Lambda)):
+            for node in ast.walk(outer):
+                if isinstance(node, ast.arg):
+                    yield node.arg
+                elif isinstance(node, ast.Name) and not isinstance(node.ctx, ast.Load):
+                    yield node.id
+
+
+class TogetherTest(unittest.TestCase):
+    def test_locals(self):
+        """L15: no parameter and no local is called like a class or an import of its file."""
+        for name, tree in trees().items():
+            taken = [node.name for node in tree.body if isinstance(node, ast.ClassDef)]
+            for node in tree.body:
+                if isinstance(node, ast.ImportFrom):
+                    taken.extend([alias.asname or alias.name for alias in node.names])
+            self.assertEqual(sorted(set(taken) & set(local_names(tree))), [], name)
+
+    def test_drawn_from_where_it_is_defined(self):
+        """L16: each name is drawn from the very file that defines it."""
+        defined = {}
+        for name, tree in trees().items():
+            defined[name] = [node.name for node in tree.body if isinstance(node, (ast.FunctionDef, ast.ClassDef))]
+            defined[name] += [node.targets[0].id for node in tree.body if isinstance(node, ast.Assign)]
+        for name, tree in trees().items():
+            for node in tree.body:
+                if isinstance(node, ast.ImportFrom):
+                    for alias in node.names:
+                        self.assertIn(alias.name, defined[node.module.split(".")[1] + ".py"], name)
+
+    def test_no_two_files_draw_from_one_another(self):
+        """L16: not in whatever many steps."""
+        draws = {}
+        for name, tree in trees().items():
+            froms = [node.module.split(".")[1] for node in tree.body if isinstance(node, ast.ImportFrom)]
+            draws[name] = {module + ".py" for module in froms}
+        while draws:
+            free = [name for name in draws if not draws[name] & set(draws)]
+            self.assertNotEqual(free, [], sorted(draws))
+            for name in free:
+                del draws[name]
+
+    def test_methods_and_values(self):
+        """L18: no name is a method in one class and a value in another; what is asked is one of them."""
+        methods, given, asked = set(), set(), set()
+        for tree in trees().values():
+            for node in ast.walk(tree):
+                if isinstance(node, ast.ClassDef):
+                    own = [part.name for part in node.body if isinstance(part, ast.FunctionDef)]
+                    self.assertEqual(sorted(set(own)), sorted(own), node.name)
+                    methods.update(own)
+                elif isinstance(node, ast.Attribute):
+                    (asked if isinstance(node.ctx, ast.Load) else given).add(node.attr)
+        self.assertEqual(sorted(methods & given), [])
+        plain = {method for kind in (str, list, dict) for method in dir(kind)}
+        self.assertEqual(sorted(asked - methods - given - plain), [])
+
+    def test_is(self):
+        """L20: `is` stands beside None, True and False alone."""
+        for name, tree in trees().items():
+            for node in ast.walk(tree):
+                if isinstance(node, ast.Compare) and isinstance(node.ops[0], (ast.Is, ast.IsNot)):
+                    sides = [side.value for side in [node.left] + node.comparators if isinstance(side, ast.Constant)]
+                    self.assertTrue([side for side in sides if side in (None, True, False)], (name, node.lineno))
 
 
 if __name__ == "__main__":
