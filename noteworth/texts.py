@@ -2,8 +2,7 @@
 
 from noteworth.errors import BadSign, BadWord
 from noteworth.signs import SILENT_KINDS, SOUNDING_KINDS, good, sounds
-
-FIGURES = ("0", "1", "2", "3", "4", "5", "6", "7", "8", "9")
+from noteworth.words import number_of
 
 # The highest tone, 99, has two figures.
 MOST_FIGURES = 2
@@ -25,25 +24,12 @@ def shown_line(line):
     return " ".join([shown_sign(sign) for sign in line])
 
 
-def tone_of(figures):
-    """Return the tone that a text of figures writes, or None where it writes none."""
-    # The length is asked first: Python refuses to read a number of very many figures.
-    if not 1 <= len(figures) <= MOST_FIGURES:
-        return None
-    # Each sign is asked by itself: int alone would take blanks, "+", "-" and "_" too.
-    if any([figure not in FIGURES for figure in figures]):
-        return None
-    if len(figures) > 1 and figures[0] == "0":
-        return None
-    return int(figures)
-
-
 def sign_of(word):
     """Return the sign that a word writes, or None where it writes no good one."""
     if word in SILENT_KINDS:
         return (word, 0)
     kind = word[:1]
-    tone = tone_of(word[1:])
+    tone = number_of(word[1:], MOST_FIGURES)
     if kind not in SOUNDING_KINDS or tone is None:
         return None
     return (kind, tone)

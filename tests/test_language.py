@@ -35,6 +35,26 @@ NODES = (
 
 METHODS = ("__init__", "__eq__", "__repr__", "__str__", "__len__")
 
+# L25, as far as texts, lists and dicts have them.
+CALLED_METHODS = set("""
+    append clear copy count endswith extend find get index insert isalnum isalpha isdigit islower isspace isupper items
+    join keys ljust lower lstrip partition pop remove replace reverse rfind rjust rpartition rsplit rstrip setdefault
+    split splitlines startswith strip update upper values zfill bit_length
+""".split())
+
+PLAIN_NODES = (ast.Constant, ast.Tuple, ast.Name, ast.Load, ast.UnaryOp, ast.USub)
+
+WALKED = ("zip", "enumerate", "reversed", "range", "items", "keys", "values")
+WALKERS = ("list", "tuple", "dict", "sorted", "sum", "any", "all", "enumerate", "zip", "bytes", "min", "max")
+KEYWORDS = {"sorted": {"key", "reverse"}, "min": {"key", "default"}, "max": {"key", "default"},
+            "sum": {"start"}, "enumerate": {"start"}, "zip": {"strict"}}
+
+NAMES_NOT_USED = set("""
+    register mro elements open input version_info with_traceback add_note attrgetter breakpoint builtins compile
+    copyright credits delattr dir eval exec exit gc getattr globals hasattr help id importlib license locals
+    methodcaller os quit setattr super type vars sys
+""".split())
+
 
 def texts():
     """The text of each file of the package, by its name."""
@@ -229,6 +249,162 @@ class TogetherTest(unittest.TestCase):
                 if isinstance(node, ast.Compare) and isinstance(node.ops[0], (ast.Is, ast.IsNot)):
                     sides = [side.value for side in [node.left] + node.comparators if isinstance(side, ast.Constant)]
                     self.assertTrue([side for side in sides if side in (None, True, False)], (name, node.lineno))
+
+
+def parents(tree):
+    """Each node's parent."""
+    return {child: node for node in ast.walk(tree) for child in ast.iter_child_nodes(node)}
+
+
+def called(node):
+    """The name or the method that a call calls."""
+    return node.func.id if isinstance(node.func, ast.Name) else node.func.attr
+
+
+def calls(tree):
+    return [node for node in ast.walk(tree) if isinstance(node, ast.Call)]
+
+
+def own_names(kind):
+    """Names of the package's own defs, methods too, or of its classes."""
+    return {node.name for tree in trees().values() for node in ast.walk(tree) if isinstance(node, kind)}
+
+
+def top_names(kind):
+    """Names that are given a value of a kind at a file's top."""
+    return {node.targets[0].id for tree in trees().values() for node in tree.body
+            if isinstance(node, ast.Assign) and isinstance(node.value, kind)}
+
+
+class CallsTest(unittest.TestCase):
+    def test_methods(self):
+        """L25: of Python's own methods the told ones alone, each called where it stands."""
+        own = own_names(ast.FunctionDef)
+        for name, tree in trees().items():
+            above = parents(tree)
+            for node in ast.walk(tree):
+                if isinstance(node, ast.Attribute):
+                    parent = above[node]
+                    is_called = isinstance(parent, ast.Call) and parent.func is node
+                    if is_called:
+                        self.assertIn(node.attr, own | CALLED_METHODS, (name, node.lineno))
+                    else:
+                        self.assertNotIn(node.attr, own | CALLED_METHODS, (name, node.lineno))
+
+    def test_keywords(self):
+        """L22: keywords where they are told, at names of Python's own."""
+        own = own_names((ast.FunctionDef, ast.ClassDef))
+        for name, tree in trees().items():
+            for node in calls(tree):
+                if called(node) not in own:
+                    given = {keyword.arg for keyword in node.keywords}
+                    self.assertLessEqual(given, KEYWORDS.get(called(node), set()), (name, node.lineno))
+
+    def test_walked_at_once(self):
+        """L23: what is walked on the spot is not kept."""
+        for name, tree in trees().items():
+            above = parents(tree)
+            for node in calls(tree):
+                if called(node) in WALKED:
+                    parent = above[node]
+                    walks = isinstance(parent, (ast.For, ast.comprehension)) and parent.iter is node
+                    hands = isinstance(parent, ast.Call) and called(parent) in WALKERS and node in parent.args
+                    self.assertTrue(walks or hands, (name, node.lineno))
+
+    def test_sets(self):
+        """L24: here a set stands within `len` or `sorted` alone."""
+        for name, tree in trees().items():
+            above = parents(tree)
+            for node in ast.walk(tree):
+                is_made = isinstance(node, ast.Call) and called(node) == "set"
+                if is_made or isinstance(node, (ast.Set, ast.SetComp)):
+                    self.assertIn(called(above[node]), ("len", "sorted"), (name, node.lineno))
+
+    def test_classes(self):
+        """L18: a class is called, is a base or stands by `except`."""
+        classes = own_names(ast.ClassDef)
+        for name, tree in trees().items():
+            above = parents(tree)
+            for node in ast.walk(tree):
+                if isinstance(node, ast.Name) and node.id in classes:
+                    parent = above[node]
+                    is_called = isinstance(parent, ast.Call) and parent.func is node
+                    is_based_on = isinstance(parent, ast.Attribute) and parent.attr == "__init__"
+                    is_taken = isinstance(parent, (ast.ExceptHandler, ast.ClassDef))
+                    self.assertTrue(is_called or is_based_on or is_taken, (name, node.lineno))
+
+    def test_errors(self):
+        """L19: refusals are made on the spot, and taken by the names of the package's own classes."""
+        classes = own_names(ast.ClassDef)
+        for name, tree in trees().items():
+            for node in ast.walk(tree):
+                if isinstance(node, ast.Raise):
+                    self.assertIn(node.exc.func.id, classes, (name, node.lineno))
+                if isinstance(node, ast.ExceptHandler):
+                    self.assertIn(node.type.id, classes, (name, node.lineno))
+
+    def test_tops_are_only_read(self):
+        """L15: a list or dict of a file's top is indexed, walked, asked by `in` or by `get`, never handed on."""
+        tops = top_names((ast.List, ast.Dict))
+        for name, tree in trees().items():
+            above = parents(tree)
+            for node in ast.walk(tree):
+                if isinstance(node, ast.Name) and node.id in tops and isinstance(node.ctx, ast.Load):
+                    parent = above[node]
+                    is_asked = isinstance(parent, ast.Attribute) and parent.attr == "get"
+                    is_indexed = isinstance(parent, ast.Subscript) and isinstance(parent.ctx, ast.Load)
+                    is_compared = isinstance(parent, ast.Compare) and node in parent.comparators
+                    self.assertTrue(is_asked or is_indexed or is_compared, (name, node.lineno))
+
+    def test_values_of_tops_and_defaults(self):
+        """L3, L4, L15: plain values, with no list or dict within a list or dict; defaults are plain too."""
+        for name, tree in trees().items():
+            defs = [node.name for node in tree.body if isinstance(node, ast.FunctionDef)]
+            for node in tree.body:
+                if isinstance(node, ast.Assign):
+                    parts = [part for part in ast.walk(node.value) if part is not node.value]
+                    for part in parts:
+                        self.assertIsInstance(part, PLAIN_NODES, (name, node.lineno))
+                        if isinstance(part, ast.Name):
+                            self.assertIn(part.id, defs, (name, node.lineno))
+            for node in ast.walk(tree):
+                if isinstance(node, ast.arguments):
+                    self.assertTrue(all(isinstance(value, ast.Constant) for value in node.defaults), name)
+
+    def test_names_not_used(self):
+        """L17, L26: names that stand nowhere, and names that Python's own values have."""
+        pythons = {each for kind in (str, int, list, dict, set, bytes) for each in dir(kind)}
+        for name, tree in trees().items():
+            used = {node.id for node in ast.walk(tree) if isinstance(node, ast.Name)} | set(bound_names(tree))
+            self.assertEqual(sorted(used & NAMES_NOT_USED), [], name)
+            for node in ast.walk(tree):
+                if isinstance(node, ast.ClassDef):
+                    own = {part.name for part in node.body if isinstance(part, ast.FunctionDef)} - set(METHODS)
+                    self.assertEqual(sorted(own & pythons), [], (name, node.name))
+                if isinstance(node, ast.Attribute) and isinstance(node.ctx, ast.Store):
+                    self.assertNotIn(node.attr, pythons, (name, node.lineno))
+
+    def test_what_is_walked_is_not_changed(self):
+        """L23: within a loop over a name nothing is stored in it, and none of its changing methods is called."""
+        changing = {"append", "clear", "extend", "insert", "pop", "remove", "reverse", "setdefault", "update", "sort"}
+        for name, tree in trees().items():
+            for loop in ast.walk(tree):
+                if not isinstance(loop, ast.For):
+                    continue
+                walked = {ast.unparse(node) for node in [loop.iter] + list(getattr(loop.iter, "args", []))
+                          if isinstance(node, (ast.Name, ast.Attribute))}
+                if isinstance(loop.iter, ast.Call) and called(loop.iter) == "list":
+                    walked = set()
+                for node in [part for row in loop.body for part in ast.walk(row)]:
+                    if isinstance(node, ast.Subscript) and not isinstance(node.ctx, ast.Load):
+                        self.assertNotIn(ast.unparse(node.value), walked, (name, node.lineno))
+                    if isinstance(node, ast.Call) and called(node) in changing and isinstance(node.func, ast.Attribute):
+                        self.assertNotIn(ast.unparse(node.func.value), walked, (name, node.lineno))
+
+    def test_escapes(self):
+        """L27: no escape but for a line feed, a tab, a backslash or a quote."""
+        for name, text in texts().items():
+            self.assertEqual(re.findall(r"\\[^nt\\'\"]", text), [], name)
 
 
 if __name__ == "__main__":

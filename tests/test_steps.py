@@ -5,58 +5,9 @@ import unittest
 
 from noteworth.reader import firm, worths
 from noteworth.steps import begin_state, ends, states, step
-from plainly import KINDS, line_of, long_lines, short_lines
-
-# Every step there is, written out by point 11: from a state, by a kind and a worth, to a state.
-# Whatever isn't here leads nowhere.
-SMALL_0 = "s1>3{0}1s d1>3{0}1o r1>3{0}1o"
-SMALL_1 = "s1>3{0}2s s2>3{0}2S d1>3{0}2o r1>3{0}2o"
-SMALL_2 = "s1>3{0}0s d1>3{0}0o r1>3{0}0o"
-PARTING = ".0>3n0- 30>3n0- 20>2-"
-GREAT = "G3>3w0- G2>3h0- D2>3n0- R3>3n0-"
-RIGHT_NOTE = "G2>3t0-"
-TWOFOLD = "s1>2- d1>2- r1>2- D2>2- R2>2- G2>2g G3>2G 30>3n0- 20>2-"
-
-STEPS = {
-    "2-": [TWOFOLD, ".0>2-"],
-    "2g": [TWOFOLD],
-    "2G": [".0>2-"],
-    "3n0-": [GREAT, PARTING, SMALL_0],
-    "3n0s": [GREAT, PARTING, SMALL_0],
-    "3n0o": [GREAT, PARTING, SMALL_0],
-    "3n1s": [RIGHT_NOTE, SMALL_1],
-    "3n1o": [RIGHT_NOTE, SMALL_1],
-    "3n2s": [SMALL_2],
-    "3n2S": [GREAT],
-    "3n2o": [SMALL_2],
-    "3w0-": [GREAT, PARTING, SMALL_0],
-    "3w0s": [GREAT, PARTING, SMALL_0],
-    "3w0o": [GREAT, PARTING, SMALL_0],
-    "3w1s": [SMALL_1],
-    "3w1o": [SMALL_1],
-    "3w2s": [SMALL_2],
-    "3w2S": [GREAT],
-    "3w2o": [SMALL_2],
-    "3h0-": [SMALL_0],
-    "3h0s": [SMALL_0],
-    "3h0o": [SMALL_0],
-    "3h1s": [GREAT, PARTING, SMALL_1],
-    "3h1o": [GREAT, PARTING, SMALL_1],
-    "3h2s": [SMALL_2],
-    "3h2S": [],
-    "3h2o": [RIGHT_NOTE, SMALL_2],
-    "3t0-": [PARTING, SMALL_0.format("n")],
-}
-
-ENDS = ["2-", "2g", "3n0-", "3n0s", "3n0o", "3w0-", "3w0s", "3w0o", "3h1s", "3h1o", "3t0-"]
+from plainly import ENDS, KINDS, SMALL_0, STEPS, line_of, long_lines, short_lines, written_steps
 
 THREEFOLD = [state for state in STEPS if state[0] == "3"]
-
-
-def written_steps(state):
-    """The written steps from a state, as a dict from (kind, worth) to a state."""
-    words = " ".join(STEPS[state]).format(state[1]).split()
-    return {(word[0], int(word[1])): word[3:] for word in words}
 
 
 def signs_of(kind):
